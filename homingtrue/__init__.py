@@ -1,0 +1,1 @@
+"""Races of homing pigeons, listed, paid and settled exactly."""
