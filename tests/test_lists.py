@@ -1,53 +1,18 @@
 """[l1]: the list of a race."""
 
-import fractions
 import itertools
 import random
 import unittest
 
 import homingtrue.lists
 from homingtrue.lists import place_in, race_list
+from tests.known import known_list
 
 # No dark, so that a flight is the true time less the start.
 CLUB = ((("hill", 0, 0), ("mill", 600, 800), ("dell", 300, 399)),
         ((7, 0, 24), (3, 0, 1), (12, 1, 25), (5, 1, 2), (100, 2, 0), (9, 2, 5)),
         (("north", 300, 400, 360, 900, 0, 0), ("south", 0, 100, 100, 500, 300, 200)))
 CLOCKS = [(0, 0, 300, 900, 900), (0, 1, 300, 900, 900), (0, 2, 300, 900, 900), (1, 0, 50, 450, 450)]
-
-
-def pair(value):
-    return (value.numerator, value.denominator)
-
-
-def known_dark(dusk, dawn, first, last):
-    """The dark between two times, stretch by stretch."""
-    total = fractions.Fraction(0)
-    minutes = dawn - dusk if dawn >= dusk else dawn + 1440 - dusk
-    for day in range(-1, 8):
-        low = day * 1440 + dusk
-        total += max(fractions.Fraction(0), min(last, low + minutes) - max(first, low))
-    return total
-
-
-def known_list(club, clocks, slips, race):
-    """The list by the words of [s1], [s2], [d2] to [d4] and [l1]."""
-    name, x, y, start, close, dusk, dawn = club[2][race]
-    speeds = []
-    for ring, loft, _ in club[1]:
-        readings = [slip[2] for slip in slips if slip[:2] == (race, ring)]
-        told = [clock for clock in clocks if clock[:2] == (race, loft)]
-        if not readings or readings[-1] is None or not told:
-            continue
-        _, _, begin, end, shown = told[-1]
-        if not begin <= readings[-1] <= shown:
-            continue
-        time = begin + fractions.Fraction((readings[-1] - begin) * (end - begin), shown - begin)
-        flown = time - start - known_dark(dusk, dawn, start, time)
-        if start < time <= close and flown > 0:
-            square = (x - club[0][loft][1]) ** 2 + (y - club[0][loft][2]) ** 2
-            speeds.append((square / flown ** 2, ring))
-    rows = [(1 + len([1 for other, _ in speeds if other > speed]), ring, pair(speed)) for speed, ring in speeds]
-    return sorted(rows, key=lambda row: (-fractions.Fraction(*row[2]), row[1]))
 
 
 class Lists(unittest.TestCase):
