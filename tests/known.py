@@ -19,7 +19,7 @@ def known_dark(dusk, dawn, first, last):
     """The dark between two times, stretch by stretch [d3]."""
     total = fractions.Fraction(0)
     minutes = dawn - dusk if dawn >= dusk else dawn + 1440 - dusk
-    for day in range(-1, 8):
+    for day in range(-1, int(last) // 1440 + 1):
         low = day * 1440 + dusk
         total += max(fractions.Fraction(0), min(last, low + minutes) - max(first, low))
     return total

@@ -8,6 +8,7 @@ import unittest
 import homingtrue.flights
 from homingtrue.clubs import read_club
 from homingtrue.flights import dark_part, flight, speed
+from tests.known import known_dark, number, pair
 
 NOUGHT = (0, 1)
 EXAMPLE = ("loft hill at 0 0\nbird 7 of hill year 24\n"
@@ -20,28 +21,6 @@ def race_of(dusk, dawn, start=360, close=900):
 
 def club_of(race, lofts=(("hill", 0, 0),)):
     return (tuple(lofts), ((7, 0, 24),), (race,))
-
-
-def pair(value):
-    value = fractions.Fraction(value)
-    return (value.numerator, value.denominator)
-
-
-def number(told):
-    return fractions.Fraction(told[0], told[1])
-
-
-def known_dark(dusk, dawn, first, last):
-    """The dark between two times, stretch by stretch."""
-    total = fractions.Fraction(0)
-    if dusk != dawn:
-        for day in range(-1, int(last) // 1440 + 1):
-            low = day * 1440 + dusk
-            high = low + 1
-            while high % 1440 != dawn:
-                high += 1
-            total += max(fractions.Fraction(0), min(last, high) - max(first, low))
-    return total
 
 
 class Dark(unittest.TestCase):

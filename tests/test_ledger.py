@@ -130,6 +130,13 @@ class Accounts(unittest.TestCase):
         transfers = [(7, 0, "zoe"), (3, 0, "a"), (12, 0, "aa"), (5, 0, "b")]
         self.check([], stakes, transfers, [("a", 0), ("aa", 0), ("b", 0), ("zoe", 0)])
 
+    def test_a_club_with_fewer_birds_than_races(self):
+        club = (CLUB[0], ((7, 0, 24),), RACES)
+        stakes = [(race, 7, 5) for race in range(4)]
+        transfers = [(7, race, "abcd"[race]) for race in range(4)]
+        told = accounts(club, CLOCKS, slips_of(3, (7,)), stakes, (1,), transfers)
+        self.assertEqual(told, [("a", 0), ("b", 0), ("c", 0), ("d", 0)])
+
     def test_many_against_the_words(self):
         chance = random.Random(22)
         rings = [7, 3, 12, 5, 20]

@@ -193,8 +193,8 @@ class Payments(unittest.TestCase):
         rows = [(n + 1, 100 - n, (50 - n, 1)) for n in range(12)]
         stakes = [(0, 100 - n, 1000 - n) for n in range(12)]
         # 11934 by five equal parts: 2386 and 4/5.
-        self.check(stakes, (10, 10, 10, 10, 10), rows,
-                   [(ring, 0) for ring in range(89, 96)] + [(96, 2386), (97, 2387), (98, 2387), (99, 2387), (100, 2387)])
+        paid = [(96, 2386), (97, 2387), (98, 2387), (99, 2387), (100, 2387)]
+        self.check(stakes, (10, 10, 10, 10, 10), rows, [(ring, 0) for ring in range(89, 96)] + paid)
 
     def test_many_against_the_words(self):
         chance = random.Random(21)

@@ -8,6 +8,7 @@ import unittest
 import homingtrue.season
 from homingtrue.lists import race_list
 from homingtrue.season import loft_list, race_points, season_list
+from tests.known import pair
 
 NOUGHT = (0, 1)
 # Four races alike, without dark; two lofts in the same distance, and a third one without birds.
@@ -15,10 +16,6 @@ RACES = tuple((name, 300, 400, 360, 900, 0, 0) for name in ("n", "o", "p", "q"))
 CLUB = ((("hill", 0, 0), ("mill", 600, 800), ("dell", 300, 399)),
         ((7, 0, 24), (3, 1, 1), (12, 0, 25), (5, 1, 2)), RACES)
 CLOCKS = [(race, loft, 300, 900, 900) for race in range(4) for loft in range(2)]
-
-
-def pair(value):
-    return (value.numerator, value.denominator)
 
 
 def slips_of(*orders):
